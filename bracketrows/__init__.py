@@ -1,0 +1,1 @@
+"""Rows of brackets, some of which are unknown."""

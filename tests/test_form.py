@@ -1,0 +1,105 @@
+"""The form of the package's files: those rules that can be seen from the files alone."""
+
+import ast
+import builtins
+import os
+import re
+import unittest
+
+FOLDER = os.path.join(os.path.dirname(os.path.dirname(os.path.abspath(__file__))), "bracketrows")
+
+FREE_BUILTINS = set(
+    "len range enumerate zip min max sum abs sorted reversed int str bool bytes list tuple dict set frozenset"
+    " isinstance ord repr any all divmod Exception ValueError TypeError KeyError IndexError LookupError"
+    " ZeroDivisionError ArithmeticError OverflowError RuntimeError NotImplementedError AttributeError"
+    " StopIteration".split())
+
+NO_NODES = (
+    ast.With, ast.Match, ast.Global, ast.Nonlocal, ast.Yield, ast.YieldFrom, ast.Await, ast.AsyncFunctionDef,
+    ast.AsyncFor, ast.AsyncWith, ast.GeneratorExp, ast.NamedExpr, ast.Div, ast.Import, ast.TryStar,
+)
+
+NO_WORDS = re.compile(
+    r"\b(type|typing|typing_extensions|enum|Enum|IntEnum|StrEnum|Flag|IntFlag|Generic|Protocol|ABC|ABCMeta"
+    r"|namedtuple|NamedTuple|TypedDict|TYPE_CHECKING|abstractmethod)\b|dataclass|overload|contextmanager")
+
+
+def package_files():
+    for name in sorted(os.listdir(FOLDER)):
+        if name != "__pycache__":
+            with open(os.path.join(FOLDER, name), encoding="utf-8") as file:
+                yield name, file.read()
+
+
+def bound_names(tree):
+    """Names that a file gives: parameters, targets, defs and classes."""
+    for node in ast.walk(tree):
+        if isinstance(node, ast.arg):
+            yield node.arg
+        elif isinstance(node, ast.Name) and not isinstance(node.ctx, ast.Load):
+            yield node.id
+        elif isinstance(node, (ast.FunctionDef, ast.ClassDef)):
+            yield node.name
+
+
+class Form(unittest.TestCase):
+    def test_files(self):
+        names = [name for name, text in package_files()]
+        self.assertIn("__init__.py", names)
+        for name in names:
+            self.assertRegex(name, r"^[a-z_0-9]+\.py$")
+
+    def test_sizes_and_signs(self):
+        for name, text in package_files():
+            rows = text.split("\n")
+            self.assertLessEqual(len(rows), 400, name)
+            for at, row in enumerate(rows, start=1):
+                self.assertLessEqual(len(row), 120, (name, at))
+                self.assertRegex(row, r"^[ -~]*$", (name, at))
+                self.assertIsNone(NO_WORDS.search(row), (name, at))
+
+    def test_defs_are_short(self):
+        for name, text in package_files():
+            for node in ast.walk(ast.parse(text)):
+                if isinstance(node, ast.FunctionDef):
+                    self.assertLessEqual(node.end_lineno - node.lineno + 1, 40, (name, node.name))
+                    self.assertFalse(node.decorator_list, (name, node.name))
+                    self.assertFalse(node.args.vararg or node.args.kwarg or node.args.posonlyargs, (name, node.name))
+
+    def test_no_statement_or_expression_that_is_out(self):
+        for name, text in package_files():
+            for node in ast.walk(ast.parse(text)):
+                self.assertNotIsInstance(node, NO_NODES, (name, getattr(node, "lineno", None)))
+                if isinstance(node, (ast.For, ast.While)):
+                    self.assertFalse(node.orelse, (name, node.lineno))
+                if isinstance(node, ast.Constant):
+                    self.assertNotIsInstance(node.value, (float, complex), (name, node.lineno))
+                    if isinstance(node.value, str):
+                        self.assertNotIn("%", node.value, (name, node.lineno))
+                if isinstance(node, ast.Compare):
+                    for sign, right in zip(node.ops, node.comparators):
+                        if isinstance(sign, (ast.Is, ast.IsNot)):
+                            self.assertIsInstance(right, ast.Constant, (name, node.lineno))
+
+    def test_imports(self):
+        for name, text in package_files():
+            for node in ast.walk(ast.parse(text)):
+                if isinstance(node, ast.ImportFrom):
+                    self.assertEqual(node.level, 0, (name, node.lineno))
+                    self.assertTrue(node.module.startswith("bracketrows."), (name, node.lineno))
+                    self.assertEqual(node.col_offset, 0, (name, node.lineno))
+
+    def test_names(self):
+        for name, text in package_files():
+            tree = ast.parse(text)
+            for given in bound_names(tree):
+                if given not in ("__init__", "__eq__", "__repr__", "__str__", "__len__"):
+                    self.assertRegex(given, r"^[A-Za-z][A-Za-z0-9_]*$", name)
+            for node in ast.walk(tree):
+                if isinstance(node, ast.Name) and hasattr(builtins, node.id):
+                    self.assertIn(node.id, FREE_BUILTINS, (name, node.lineno))
+                    self.assertIsInstance(node.ctx, ast.Load, (name, node.lineno))
+
+
+if __name__ == "__main__":
+    unittest.main()
