@@ -1,4 +1,4 @@
-"""The form of the package's files: those rules that can be seen from the files alone."""
+"""The form of the package's files: some of the rules, those that are quickly seen; the rest is kept by reading."""
 
 import ast
 import builtins
