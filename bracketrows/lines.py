@@ -1,10 +1,11 @@
 """Rows by a number of kinds, which of them are right, and who closes whom."""
 
-from bracketrows.errors import NoKinds, NoLine, NotRight
+from bracketrows.errors import NoKinds, NoLine, NoPlace, NotRight
 
 OPENING = "([{<"
 CLOSING = ")]}>"
 KINDS = ("()", "[]", "{}", "<>")
+BRACKETS = "()[]{}<>"
 UNKNOWN = "?"
 MOST_SIGNS = 40
 
@@ -33,6 +34,12 @@ def check_line(k, row):
     """Refuse a k that is none, then what is no row by it."""
     if not is_line(k, row):
         raise NoLine("a row is a text of at most forty brackets of the kinds there are, and ?")
+
+
+def check_place(row, i):
+    """Refuse what is no place of a row."""
+    if not is_whole(i) or not 0 <= i < len(row):
+        raise NoPlace("a place is a whole number from 0 on, below the length of the row")
 
 
 def matched(row):

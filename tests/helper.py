@@ -156,3 +156,120 @@ def lists_within(thing):
         for inner in thing:
             found += lists_within(inner)
     return found
+
+
+def no_numbers_below(many):
+    """Things that are no whole number from 0 on, below many."""
+    wrong = [number for number in numbers() + [-2, -40, 40, many, many + 1, 10 * many] if not 0 <= number < many]
+    return wrong + of_other_kinds() + lists() + ["", "0", "1", "()", "?", "a" * 1000]
+
+
+def no_brackets(k):
+    """Things that are no bracket of the kinds of k, one sign."""
+    texts = ["", "?", "a", " ", "0", "()", "((", "(?", ")(", BRACKETS[:2 * k], BRACKETS, "\n", "(" * 1000, "[]"]
+    return texts + list(BRACKETS[2 * k:]) + of_other_kinds() + lists() + numbers()
+
+
+def no_weights(k):
+    """Things that are no weights by k."""
+    many = 2 * k
+    wrong = [[1] * length for length in range(41) if length != many]
+    wrong += [
+        [1] * place + [thing] + [1] * (many - 1 - place)
+        for place in range(many)
+        for thing in of_other_kinds() + lists() + [-1, -10 ** 29, "", "1", "("]
+    ]
+    wrong += [(1,) * many, {at: 1 for at in range(many)}, "1" * many, b"1" * many, [[1] * many], [[1, 1]] * k]
+    return wrong + of_other_kinds() + [one for one in lists() if one != [0, 1]] + numbers() + ["", "()"]
+
+
+def in_order(rows):
+    """Rows in the order of the first brackets that are unlike, ( ) [ ] { } < >."""
+    return sorted(rows, key=lambda row: [BRACKETS.index(bracket) for bracket in row])
+
+
+def right_fillings(k, row):
+    """The right fillings of a row, gone through sign by sign, in their order."""
+    choices = [BRACKETS[:2 * k] if sign == "?" else sign for sign in row]
+    return in_order([
+        "".join(filling) for filling in itertools.product(*choices) if is_right_by_taking_away("".join(filling))])
+
+
+def fits(row, filling):
+    return len(row) == len(filling) and all(sign in ("?", bracket) for sign, bracket in zip(row, filling))
+
+
+def right_rows_that_fit(row, right):
+    """The right fillings of a row, picked from all right rows."""
+    return in_order([one for one in right if fits(row, one)])
+
+
+def rows_that_fit(right):
+    """Of right rows several rows each that have them as fillings, some signs unknown by a fixed pattern."""
+    found = []
+    for at, row in enumerate(right):
+        for pattern in (at * 37 + 5, at * 101 + 9, at * 211 + 14):
+            found.append("".join("?" if pattern >> place & 1 else sign for place, sign in enumerate(row)))
+    return found
+
+
+def filling_weight(row, filling, weights):
+    """The product of the weights of the brackets in the places of ?."""
+    weight = 1
+    for sign, bracket in zip(row, filling):
+        if sign == "?":
+            weight *= weights[BRACKETS.index(bracket)]
+    return weight
+
+
+def by_stacks(k, row, weights, summed=sum):
+    """A second way to the sum of the weights (or, by max, to the greatest one): sign by sign from the left.
+
+    For each stack of what is not yet closed, told by the weights of its opening brackets, it keeps one number.
+    """
+    stacks = {(): 1}
+    for at, sign in enumerate(row):
+        here = [weights[place] if sign == "?" else int(sign == BRACKETS[place]) for place in range(2 * k)]
+        opening, closing = tuple(here[::2]), here[1::2]
+        found = {}
+        for stack, weight in stacks.items():
+            if any(opening) and len(stack) < len(row) - at:
+                found.setdefault(stack + (opening,), []).append(weight)
+            if stack and any(closing):
+                pair = summed([first * last for first, last in zip(stack[-1], closing)])
+                found.setdefault(stack[:-1], []).append(weight * pair)
+        stacks = {stack: summed(weights_of_it) for stack, weights_of_it in found.items()}
+    return stacks.get((), 0)
+
+
+def count_by_stacks(k, row):
+    return by_stacks(k, row, [1] * (2 * k))
+
+
+def with_sign(row, place, sign):
+    """A row with another sign at a place."""
+    return row[:place] + sign + row[place + 1:]
+
+
+def forty_with_fillings(k):
+    """Rows of forty signs by k that have right fillings: all unknown, few unknown, and much between."""
+    opening, closing = BRACKETS[2 * k - 2:2 * k]
+    nested = opening * 10 + "(" * 10 + ")" * 10 + closing * 10
+    side_by_side = (BRACKETS[:2 * k] * 20)[:40]
+    return [
+        "?" * 40, "(" + "?" * 39, "?" * 39 + closing, "?" * 20 + opening + "?" * 19, "(" * 20 + "?" * 20,
+        "?" * 20 + closing * 20, "(?" * 20, "?" + "?)" * 19 + closing,
+        ("?" * 9 + "(" + "?" * 8 + closing + "?") * 2, "(" + "?" * 18 + ")" + opening + "?" * 18 + closing,
+        nested, nested[:5] + "?" * 6 + nested[11:30] + "??" + nested[32:],
+        "?" * 8 + nested[8:16] + "?" * 8 + nested[24:32] + "?" * 8, side_by_side, side_by_side[:24] + "?" * 16,
+        side_by_side[:19] + "??" + side_by_side[21:], ("?" + opening + "??" + ")?" + "??") * 5,
+    ]
+
+
+def forty_without_fillings(k):
+    """Rows of forty signs by k that have no right filling."""
+    opening, closing = BRACKETS[2 * k - 2:2 * k]
+    return [
+        ")" + "?" * 39, "?" * 39 + "(", "(" * 21 + "?" * 19, "?" * 18 + closing * 22, ("?" * 7 + opening) * 5,
+        "?" * 19 + closing * 21, closing * 20 + "?" * 20, "(" * 40, ")" * 40, "()" * 19 + closing + "?",
+    ]

@@ -100,6 +100,65 @@ class Form(unittest.TestCase):
                     self.assertIn(node.id, FREE_BUILTINS, (name, node.lineno))
                     self.assertIsInstance(node.ctx, ast.Load, (name, node.lineno))
 
+    def test_no_parameter_or_local_is_called_like_an_import_or_a_name_of_pythons(self):
+        for name, text in package_files():
+            tree = ast.parse(text)
+            taken = {one.name for node in ast.walk(tree) if isinstance(node, ast.ImportFrom) for one in node.names}
+            taken |= {node.name for node in ast.walk(tree) if isinstance(node, ast.ClassDef)}
+            for node in ast.walk(tree):
+                if isinstance(node, ast.FunctionDef):
+                    for given in bound_names(ast.Module(body=[node.args, *node.body], type_ignores=[])):
+                        self.assertNotIn(given, taken, (name, node.name))
+                        self.assertFalse(hasattr(builtins, given), (name, node.name, given))
+
+    def test_what_is_walked_at_once_is_not_kept(self):
+        for name, text in package_files():
+            for node in ast.walk(ast.parse(text)):
+                if isinstance(node, (ast.Assign, ast.AugAssign, ast.Return)) and isinstance(node.value, ast.Call):
+                    called = node.value.func
+                    word = called.id if isinstance(called, ast.Name) else getattr(called, "attr", "")
+                    self.assertNotIn(
+                        word, ("zip", "enumerate", "reversed", "range", "items", "keys", "values"), (name, node.lineno))
+
+    def test_imports_are_drawn_from_where_they_are_made_and_never_round(self):
+        made, drawn = {}, {}
+        for name, text in package_files():
+            module = "bracketrows." + name[:-3]
+            tree = ast.parse(text)
+            made[module] = {node.name for node in tree.body if isinstance(node, (ast.FunctionDef, ast.ClassDef))}
+            made[module] |= {one.id for node in tree.body if isinstance(node, ast.Assign) for one in node.targets}
+            drawn[module] = {
+                node.module: [one.name for one in node.names] for node in tree.body if isinstance(node, ast.ImportFrom)}
+        for module, sources in drawn.items():
+            for source, names in sources.items():
+                self.assertLessEqual(set(names), made[source], (module, source))
+        while drawn:
+            free = [module for module, sources in drawn.items() if not set(sources) & set(drawn)]
+            self.assertTrue(free, sorted(drawn))
+            for module in free:
+                del drawn[module]
+
+    def test_what_is_drawn_is_used(self):
+        for name, text in package_files():
+            tree = ast.parse(text)
+            used = {node.id for node in ast.walk(tree) if isinstance(node, ast.Name)}
+            for node in ast.walk(tree):
+                if isinstance(node, ast.ImportFrom):
+                    self.assertLessEqual({one.name for one in node.names}, used, name)
+
+    def test_methods_and_values_bear_names_of_their_own(self):
+        methods, values = set(), set()
+        for name, text in package_files():
+            for node in ast.walk(ast.parse(text)):
+                if isinstance(node, ast.ClassDef):
+                    methods |= {one.name for one in node.body if isinstance(one, ast.FunctionDef)}
+                if isinstance(node, ast.Attribute) and isinstance(node.ctx, ast.Store):
+                    values.add(node.attr)
+        self.assertFalse(methods & values)
+        for kind in (str, int, list, dict, set, bytes, tuple):
+            for word in (methods | values) - {"__init__"}:
+                self.assertFalse(hasattr(kind, word), (kind, word))
+
 
 if __name__ == "__main__":
     unittest.main()
