@@ -74,12 +74,17 @@ def likeliest_spans(places):
     return best
 
 
-def likeliest(k, row, weights):
-    """The greatest weight of a right filling with the first filling that has it, or None where none counts."""
-    best = likeliest_spans(checked_places(k, row, weights))[0][-1]
+def first_likeliest(places):
+    """As likeliest, of a row that is handed in as its places."""
+    best = likeliest_spans(places)[0][-1]
     if best is None:
         return None
     return (best[0], "".join([BRACKETS[bracket] for bracket in best[1]]))
+
+
+def likeliest(k, row, weights):
+    """The greatest weight of a right filling with the first filling that has it, or None where none counts."""
+    return first_likeliest(checked_places(k, row, weights))
 
 
 def check_bracket(k, thing):

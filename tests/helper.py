@@ -1,4 +1,4 @@
-"""What several tests share: things that are no k, no row and no tree, and rows to go through."""
+"""What several tests share: things that are no k, no row and no tree, rows to go through, and second ways to reckon."""
 
 import itertools
 
@@ -273,3 +273,53 @@ def forty_without_fillings(k):
         ")" + "?" * 39, "?" * 39 + "(", "(" * 21 + "?" * 19, "?" * 18 + closing * 22, ("?" * 7 + opening) * 5,
         "?" * 19 + closing * 21, closing * 20 + "?" * 20, "(" * 40, ")" * 40, "()" * 19 + closing + "?",
     ]
+
+
+def changes(row, right):
+    """How many brackets of a row are unlike those of a right row; what stands for ? is no change."""
+    return sum(sign not in ("?", bracket) for sign, bracket in zip(row, right))
+
+
+def filling_depth(filling):
+    """How many brackets wait at the end of a filling, bracket by bracket, or None where it begins no right row."""
+    waiting = []
+    for bracket in filling:
+        at = BRACKETS.index(bracket)
+        if at % 2 == 0:
+            waiting.append(at)
+        elif not waiting or waiting.pop() != at - 1:
+            return None
+    return len(waiting)
+
+
+def all_fillings(k, row):
+    choices = [BRACKETS[:2 * k] if sign == "?" else sign for sign in row]
+    return ["".join(filling) for filling in itertools.product(*choices)]
+
+
+def depths_one_by_one(k, row):
+    """The depths of all fillings of a row that begin a right row, gone through one by one."""
+    told = {filling_depth(filling) for filling in all_fillings(k, row)}
+    return sorted(told - {None})
+
+
+def many_by_depth(k, row):
+    """A second way, from the left by stacks: for each depth how many fillings begin a right row and end there."""
+    stacks = {(): 1}
+    for sign in row:
+        here = [int(sign in ("?", bracket)) for bracket in BRACKETS[:2 * k]]
+        opening, closing = tuple(here[::2]), here[1::2]
+        found = {}
+        for stack, many in stacks.items():
+            if any(opening):
+                found[stack + (opening,)] = found.get(stack + (opening,), 0) + many
+            pair = sum(first * last for first, last in zip(stack[-1], closing)) if stack else 0
+            if pair:
+                found[stack[:-1]] = found.get(stack[:-1], 0) + many * pair
+        stacks = found
+    by_depth = {}
+    for stack, many in stacks.items():
+        for opening in stack:
+            many *= sum(opening)
+        by_depth[len(stack)] = by_depth.get(len(stack), 0) + many
+    return by_depth

@@ -24,6 +24,21 @@ NO_WORDS = re.compile(
     r"|namedtuple|NamedTuple|TypedDict|TYPE_CHECKING|abstractmethod)\b|dataclass|overload|contextmanager")
 
 
+FREE_METHODS = set(
+    "append clear copy count endswith extend find get index insert isalnum isalpha isdigit islower isspace isupper"
+    " items join keys ljust lower lstrip partition pop remove replace reverse rfind rjust rpartition rsplit rstrip"
+    " setdefault split splitlines startswith strip update upper values zfill bit_length".split())
+
+TOP_NODES = (ast.ImportFrom, ast.FunctionDef, ast.ClassDef, ast.Assign)
+
+PLAIN_NODES = (ast.Constant, ast.Tuple, ast.List, ast.Dict, ast.Name, ast.Load)
+
+NO_NAMES = set(
+    "register mro elements open input version_info with_traceback add_note attrgetter breakpoint builtins compile"
+    " copyright credits delattr dir eval exec exit gc getattr globals hasattr help id importlib license locals"
+    " methodcaller os quit setattr super type vars sys format format_map".split())
+
+
 def package_files():
     for name in sorted(os.listdir(FOLDER)):
         if name != "__pycache__":
@@ -158,6 +173,98 @@ class Form(unittest.TestCase):
         for kind in (str, int, list, dict, set, bytes, tuple):
             for word in (methods | values) - {"__init__"}:
                 self.assertFalse(hasattr(kind, word), (kind, word))
+
+    def test_the_top_of_a_file(self):
+        for name, text in package_files():
+            tree = ast.parse(text)
+            self.assertTrue(ast.get_docstring(tree), name)
+            names = []
+            for node in tree.body[1:]:
+                self.assertIsInstance(node, TOP_NODES, (name, node.lineno))
+                if isinstance(node, ast.ImportFrom):
+                    names += [one.asname or one.name for one in node.names]
+                elif isinstance(node, ast.Assign):
+                    self.check_top_value(name, node)
+                    names += [one.id for one in node.targets]
+                else:
+                    names.append(node.name)
+            self.assertEqual(len(names), len(set(names)), name)
+
+    def check_top_value(self, name, node):
+        defs = set(re.findall(r"^def (\w+)", self.text_above(name, node.lineno), re.M))
+        for one in ast.walk(node.value):
+            self.assertIsInstance(one, PLAIN_NODES, (name, node.lineno))
+            if isinstance(one, ast.Name):
+                self.assertIn(one.id, defs, (name, node.lineno))
+            if isinstance(one, (ast.List, ast.Dict)):
+                self.assertIs(one, node.value, (name, node.lineno))
+
+    def text_above(self, name, row):
+        return "\n".join(dict(package_files())[name].split("\n")[:row])
+
+    def test_classes_hold_methods_alone(self):
+        for name, text in package_files():
+            for node in ast.walk(ast.parse(text)):
+                if isinstance(node, ast.ClassDef):
+                    self.assertFalse(node.decorator_list or node.keywords or len(node.bases) > 1, (name, node.name))
+                    for one in node.body[1:]:
+                        self.assertIsInstance(one, ast.FunctionDef, (name, node.name))
+                    methods = [one.name for one in node.body[1:]]
+                    self.assertEqual(len(methods), len(set(methods)), (name, node.name))
+
+    def test_methods_and_values_that_are_asked_are_there(self):
+        methods, values, asked, called = set(), set(), set(), set()
+        for name, text in package_files():
+            tree = ast.parse(text)
+            calls = {id(node.func) for node in ast.walk(tree) if isinstance(node, ast.Call)}
+            for node in ast.walk(tree):
+                if isinstance(node, ast.ClassDef):
+                    methods |= {one.name for one in node.body if isinstance(one, ast.FunctionDef)}
+                elif isinstance(node, ast.Attribute) and isinstance(node.ctx, ast.Store):
+                    values.add(node.attr)
+                elif isinstance(node, ast.Attribute):
+                    (called if id(node) in calls else asked).add(node.attr)
+        self.assertLessEqual(called, FREE_METHODS | methods)
+        self.assertLessEqual(asked, values)
+
+    def test_no_star_no_lambda_no_keyword_that_is_not_asked_for(self):
+        for name, text in package_files():
+            for node in ast.walk(ast.parse(text)):
+                self.assertNotIsInstance(node, (ast.Starred, ast.Lambda, ast.Try, ast.Set), name)
+                if isinstance(node, ast.Call):
+                    self.assertFalse(node.keywords, (name, node.lineno))
+
+    def test_sets_stand_straight_within_sorted(self):
+        for name, text in package_files():
+            tree = ast.parse(text)
+            within = {
+                id(node.args[0]) for node in ast.walk(tree)
+                if isinstance(node, ast.Call) and isinstance(node.func, ast.Name) and node.func.id in ("sorted", "len")}
+            for node in ast.walk(tree):
+                is_set = isinstance(node, ast.Call) and isinstance(node.func, ast.Name) and node.func.id == "set"
+                if is_set or isinstance(node, ast.SetComp):
+                    self.assertIn(id(node), within, (name, node.lineno))
+
+    def test_names_that_are_not_used(self):
+        for name, text in package_files():
+            tree = ast.parse(text)
+            used = set(bound_names(tree)) | {node.id for node in ast.walk(tree) if isinstance(node, ast.Name)}
+            used |= {node.attr for node in ast.walk(tree) if isinstance(node, ast.Attribute)}
+            self.assertFalse(used & NO_NAMES, name)
+
+    def test_what_a_file_keeps_at_its_top_is_only_read(self):
+        for name, text in package_files():
+            tree = ast.parse(text)
+            kept = {
+                node.targets[0].id for node in tree.body
+                if isinstance(node, ast.Assign) and isinstance(node.value, (ast.List, ast.Dict))}
+            reads = {
+                id(one) for node in ast.walk(tree) for one in (
+                    [node.value] if isinstance(node, ast.Subscript) and isinstance(node.ctx, ast.Load)
+                    else node.comparators if isinstance(node, ast.Compare) else [])}
+            for node in ast.walk(tree):
+                if isinstance(node, ast.Name) and node.id in kept and isinstance(node.ctx, ast.Load):
+                    self.assertIn(id(node), reads, (name, node.lineno))
 
 
 if __name__ == "__main__":
